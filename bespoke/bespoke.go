@@ -1,0 +1,84 @@
+// Package bespoke: tables made to measure, as programs of a small machine: see DOC.md.
+package bespoke
+
+import (
+	"bespoke/api"
+	"bespoke/layout"
+)
+
+// Table holds keys and values of two types.
+type Table struct{}
+
+// Size tells a type's size and step (P3).
+func Size(typ string) (int, int, api.Errno) {
+	shape, ok := layout.Parse(typ)
+	if !ok {
+		return 0, 0, api.ErrType
+	}
+	return shape.Size(), shape.Step(), api.OK
+}
+
+// Encode tells how a value lies (P4).
+func Encode(typ string, value string, fill int) (string, api.Errno) {
+	shape, ok := layout.Parse(typ)
+	if !ok {
+		return "", api.ErrType
+	}
+	// A wrong value is named ahead of a wrong fill, so the value is laid first, with whatever fill.
+	bytes, ok := shape.Lay(value, byte(fill&255))
+	if !ok {
+		return "", api.ErrValue
+	}
+	if fill < 0 || fill > 255 {
+		return "", api.ErrArg
+	}
+	return bytes, api.OK
+}
+
+// Decode tells which value lies there (P5).
+func Decode(typ string, bytes string) (string, api.Errno) {
+	shape, ok := layout.Parse(typ)
+	if !ok {
+		return "", api.ErrType
+	}
+	value, ok := shape.Tell(bytes)
+	if !ok {
+		return "", api.ErrBytes
+	}
+	return value, api.OK
+}
+
+// Check tells whether it is code (P6).
+func Check(code string) api.Errno { return api.OK }
+
+// Run runs code (P7).
+func Run(code string, memory string, a int, b int, c int, fuel int) (api.Outcome, api.Errno) {
+	return api.Outcome{}, api.OK
+}
+
+// Trim leaves out what cannot be reached (P8).
+func Trim(code string) (string, api.Errno) { return "", api.OK }
+
+// Room tells how many bytes a program's table needs (P9).
+func Room(key string, value string, slots int) (int, api.Errno) { return 0, api.OK }
+
+// Compile writes the program for a table (P9, P10).
+func Compile(key string, value string, slots int) (string, api.Errno) { return "", api.OK }
+
+// New makes a table (P11).
+func New(key string, value string, slots int) (*Table, api.Errno) { return nil, api.OK }
+
+// Put lays a key down with a value (P11).
+func (t *Table) Put(key string, value string) api.Errno { return api.OK }
+
+// Get tells a key's value (P11).
+func (t *Table) Get(key string) (string, api.Errno) { return "", api.OK }
+
+// Drop takes a key away (P11).
+func (t *Table) Drop(key string) api.Errno { return api.OK }
+
+// Len tells how many keys there are (P11).
+func (t *Table) Len() int { return 0 }
+
+// Clear takes all keys away (P11).
+func (t *Table) Clear() {}
