@@ -4,6 +4,7 @@ package bespoke
 import (
 	"bespoke/api"
 	"bespoke/layout"
+	"bespoke/machine"
 )
 
 // Table holds keys and values of two types.
@@ -49,15 +50,39 @@ func Decode(typ string, bytes string) (string, api.Errno) {
 }
 
 // Check tells whether it is code (P6).
-func Check(code string) api.Errno { return api.OK }
+func Check(code string) api.Errno {
+	_, ok := machine.Parse(code)
+	if !ok {
+		return api.ErrCode
+	}
+	return api.OK
+}
 
 // Run runs code (P7).
 func Run(code string, memory string, a int, b int, c int, fuel int) (api.Outcome, api.Errno) {
-	return api.Outcome{}, api.OK
+	program, ok := machine.Parse(code)
+	if !ok {
+		return api.Outcome{}, api.ErrCode
+	}
+	if len(memory) > api.MaxMemory {
+		return api.Outcome{}, api.ErrLong
+	}
+	start := machine.Start{A: a, B: b, C: c, Fuel: fuel}
+	if !start.Allowed() {
+		return api.Outcome{}, api.ErrArg
+	}
+	return program.Run(memory, start)
 }
 
 // Trim leaves out what cannot be reached (P8).
-func Trim(code string) (string, api.Errno) { return "", api.OK }
+func Trim(code string) (string, api.Errno) {
+	program, ok := machine.Parse(code)
+	if !ok {
+		return "", api.ErrCode
+	}
+	trimmed := program.Trim()
+	return trimmed.Text(), api.OK
+}
 
 // Room tells how many bytes a program's table needs (P9).
 func Room(key string, value string, slots int) (int, api.Errno) { return 0, api.OK }
