@@ -5,6 +5,7 @@ import (
 	"bespoke/api"
 	"bespoke/layout"
 	"bespoke/machine"
+	"bespoke/program"
 )
 
 // Table holds keys and values of two types.
@@ -85,10 +86,39 @@ func Trim(code string) (string, api.Errno) {
 }
 
 // Room tells how many bytes a program's table needs (P9).
-func Room(key string, value string, slots int) (int, api.Errno) { return 0, api.OK }
+func Room(key string, value string, slots int) (int, api.Errno) {
+	plan, e := makePlan(key, value, slots)
+	if e != api.OK {
+		return 0, e
+	}
+	return plan.Room(), api.OK
+}
 
 // Compile writes the program for a table (P9, P10).
-func Compile(key string, value string, slots int) (string, api.Errno) { return "", api.OK }
+func Compile(key string, value string, slots int) (string, api.Errno) {
+	plan, e := makePlan(key, value, slots)
+	if e != api.OK {
+		return "", e
+	}
+	return plan.Code(), api.OK
+}
+
+// makePlan answers what the programs for a table hang on, with the errors of Room and Compile.
+func makePlan(key string, value string, slots int) (program.Plan, api.Errno) {
+	keyShape, ok := layout.Parse(key)
+	if !ok {
+		return program.Plan{}, api.ErrType
+	}
+	valueShape, ok := layout.Parse(value)
+	if !ok {
+		return program.Plan{}, api.ErrType
+	}
+	plan, ok := program.Make(keyShape, valueShape, slots)
+	if !ok {
+		return program.Plan{}, api.ErrArg
+	}
+	return plan, api.OK
+}
 
 // New makes a table (P11).
 func New(key string, value string, slots int) (*Table, api.Errno) { return nil, api.OK }

@@ -1,6 +1,7 @@
 package layout
 
 import (
+	"slices"
 	"strings"
 	"testing"
 )
@@ -81,6 +82,20 @@ func TestPlaces(t *testing.T) {
 				t.Errorf("%q: leaves at %v, want %v", c.typ, places, c.places)
 				break
 			}
+		}
+	}
+}
+
+func TestCovered(t *testing.T) {
+	for _, c := range []struct {
+		typ    string
+		places []int
+	}{
+		{"u1", []int{0}}, {"u4", []int{0, 1, 2, 3}}, {"b3", []int{0, 1, 2}}, {"{u1}", []int{0}}, {"{u1,u4}", []int{0, 4, 5, 6, 7}}, {"{u4,u1}", []int{0, 1, 2, 3, 4}}, {"{u1,u2,u1}", []int{0, 2, 3, 4}}, {"{u1,{u2,u1},b2}", []int{0, 2, 3, 4, 6, 7}}, {"{{{{u1,u2}}},u4,u1}", []int{0, 2, 3, 4, 5, 6, 7, 8}},
+	} {
+		shape, _ := Parse(c.typ)
+		if places := shape.Covered(); !slices.Equal(places, c.places) {
+			t.Errorf("%q: covered %v, want %v", c.typ, places, c.places)
 		}
 	}
 }

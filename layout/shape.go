@@ -34,6 +34,20 @@ func (s Shape) Size() int { return s.size }
 // Step is what the place of a field of the type is a multiple of.
 func (s Shape) Step() int { return s.step }
 
+// Covered answers the places of the bytes in which a field lies, the lowest first: all but the gaps.
+func (s Shape) Covered() []int {
+	var places []int
+	for _, p := range s.parts {
+		if p.kind == markPart {
+			continue
+		}
+		for i := p.place; i < p.place+p.size; i++ {
+			places = append(places, i)
+		}
+	}
+	return places
+}
+
 // Parse reads a type; false, if the text is none.
 func Parse(text string) (Shape, bool) {
 	if len(text) > api.MaxType {

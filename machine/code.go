@@ -45,7 +45,7 @@ func (i instruction) saysWhere() bool { return i.op >= opGo }
 // nextFollows tells whether the instruction behind this one may follow it.
 func (i instruction) nextFollows() bool { return i.op != opEnd && i.op != opGo }
 
-// Code is a program that has been read. Only Parse makes one, so its registers are there, every instruction that may follow another is there, and there is a first one.
+// Code is a program that has been read. Only Parse makes one, and Trim out of it, so its registers are there, every instruction that may follow another is there, and there is a first one.
 type Code struct {
 	list []instruction
 }
@@ -95,9 +95,11 @@ func allowed(i instruction, count int) bool {
 }
 
 // Text answers the code as a text, which Parse reads as the same code.
-func (c Code) Text() string {
+func (c Code) Text() string { return textOf(c.list) }
+
+func textOf(list []instruction) string {
 	var bytes []byte
-	for _, i := range c.list {
+	for _, i := range list {
 		bytes = append(bytes, byte(i.op&255))
 		bytes = append(bytes, byte(i.a&255))
 		bytes = append(bytes, byte(i.b&255))
