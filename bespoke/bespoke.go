@@ -8,9 +8,6 @@ import (
 	"bespoke/program"
 )
 
-// Table holds keys and values of two types.
-type Table struct{}
-
 // Size tells a type's size and step (P3).
 func Size(typ string) (int, int, api.Errno) {
 	shape, ok := layout.Parse(typ)
@@ -87,53 +84,42 @@ func Trim(code string) (string, api.Errno) {
 
 // Room tells how many bytes a program's table needs (P9).
 func Room(key string, value string, slots int) (int, api.Errno) {
-	plan, e := makePlan(key, value, slots)
+	m, e := measure(key, value, slots)
 	if e != api.OK {
 		return 0, e
 	}
-	return plan.Room(), api.OK
+	return m.plan.Room(), api.OK
 }
 
 // Compile writes the program for a table (P9, P10).
 func Compile(key string, value string, slots int) (string, api.Errno) {
-	plan, e := makePlan(key, value, slots)
+	m, e := measure(key, value, slots)
 	if e != api.OK {
 		return "", e
 	}
-	return plan.Code(), api.OK
+	return m.plan.Code(), api.OK
 }
 
-// makePlan answers what the programs for a table hang on, with the errors of Room and Compile.
-func makePlan(key string, value string, slots int) (program.Plan, api.Errno) {
+// Measures are what a table is made to: its types, and the plan of its program.
+type measures struct {
+	key   layout.Shape
+	value layout.Shape
+	plan  program.Plan
+}
+
+// measure takes the measures, with the errors that Room, Compile and New have alike.
+func measure(key string, value string, slots int) (measures, api.Errno) {
 	keyShape, ok := layout.Parse(key)
 	if !ok {
-		return program.Plan{}, api.ErrType
+		return measures{}, api.ErrType
 	}
 	valueShape, ok := layout.Parse(value)
 	if !ok {
-		return program.Plan{}, api.ErrType
+		return measures{}, api.ErrType
 	}
 	plan, ok := program.Make(keyShape, valueShape, slots)
 	if !ok {
-		return program.Plan{}, api.ErrArg
+		return measures{}, api.ErrArg
 	}
-	return plan, api.OK
+	return measures{key: keyShape, value: valueShape, plan: plan}, api.OK
 }
-
-// New makes a table (P11).
-func New(key string, value string, slots int) (*Table, api.Errno) { return nil, api.OK }
-
-// Put lays a key down with a value (P11).
-func (t *Table) Put(key string, value string) api.Errno { return api.OK }
-
-// Get tells a key's value (P11).
-func (t *Table) Get(key string) (string, api.Errno) { return "", api.OK }
-
-// Drop takes a key away (P11).
-func (t *Table) Drop(key string) api.Errno { return api.OK }
-
-// Len tells how many keys there are (P11).
-func (t *Table) Len() int { return 0 }
-
-// Clear takes all keys away (P11).
-func (t *Table) Clear() {}

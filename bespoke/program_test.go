@@ -22,6 +22,7 @@ func gappy() *node {
 	return group(number(1), number(4), number(1), number(4), number(1), number(4), number(1), number(4))
 }
 
+// wantNoProgram asks New too, which has the errors of Room.
 func wantNoProgram(t *testing.T, key string, value string, slots int, errno api.Errno) {
 	t.Helper()
 	if n, e := bespoke.Room(key, value, slots); n != 0 || e != errno {
@@ -29,6 +30,9 @@ func wantNoProgram(t *testing.T, key string, value string, slots int, errno api.
 	}
 	if s, e := bespoke.Compile(key, value, slots); s != "" || e != errno {
 		t.Errorf("P9: Compile(%.40q, %.40q, %d) = %.40q, %d, want %d", key, value, slots, s, e, errno)
+	}
+	if x, e := bespoke.New(key, value, slots); x != nil || e != errno {
+		t.Errorf("P11: New(%.40q, %.40q, %d): table %v, %d, want none, %d", key, value, slots, x != nil, e, errno)
 	}
 }
 

@@ -7,10 +7,10 @@ import (
 
 // The statuses with which a program ends.
 const (
-	statusDone   = 0
-	statusNone   = 1
-	statusFull   = 2
-	statusNoTask = 3
+	StatusDone   = 0
+	StatusNone   = 1
+	StatusFull   = 2
+	StatusNoTask = 3
 )
 
 // What the registers hold. The first three are given; none of them is changed but by telling the number of keys, in register 0.
@@ -71,7 +71,7 @@ func (w *writer) choose() {
 	w.goIfTask(api.Take, toSearch)
 	w.goIfTask(api.Count, toCount)
 	w.goIfTask(api.Empty, toEmpty)
-	w.out.End(statusNoTask)
+	w.out.End(StatusNoTask)
 }
 
 func (w *writer) goIfTask(wanted int, label int) {
@@ -82,14 +82,14 @@ func (w *writer) goIfTask(wanted int, label int) {
 func (w *writer) tellCount() {
 	w.out.Here(toCount)
 	w.out.Load(regTask, regZero, 0)
-	w.out.End(statusDone)
+	w.out.End(StatusDone)
 }
 
 // empty forgets the entries; their bytes may stay, since only those within the count are looked at.
 func (w *writer) empty() {
 	w.out.Here(toEmpty)
 	w.out.Store(regZero, regZero, 0)
-	w.out.End(statusDone)
+	w.out.End(StatusDone)
 }
 
 // search looks at one entry after the other, until it finds the key or comes to the end.
@@ -144,7 +144,7 @@ func (w *writer) present() {
 	w.out.Number(regNumber, 1)
 	w.out.Subtract(regCount, regNumber)
 	w.out.Store(regCount, regZero, 0)
-	w.out.End(statusDone)
+	w.out.End(StatusDone)
 }
 
 func (w *writer) layValue() {
@@ -152,7 +152,7 @@ func (w *writer) layValue() {
 	for i, place := range w.plan.value {
 		w.move(regEntry, len(w.plan.key)+i, regValue, place)
 	}
-	w.out.End(statusDone)
+	w.out.End(StatusDone)
 }
 
 func (w *writer) giveValue() {
@@ -160,7 +160,7 @@ func (w *writer) giveValue() {
 	for i, place := range w.plan.value {
 		w.move(regValue, place, regEntry, len(w.plan.key)+i)
 	}
-	w.out.End(statusDone)
+	w.out.End(StatusDone)
 }
 
 // move lets the byte at a place behind one register become the byte at a place behind another.
@@ -171,7 +171,7 @@ func (w *writer) move(to int, toPlace int, from int, fromPlace int) {
 
 func (w *writer) refuse() {
 	w.out.Here(toNone)
-	w.out.End(statusNone)
+	w.out.End(StatusNone)
 	w.out.Here(toFull)
-	w.out.End(statusFull)
+	w.out.End(StatusFull)
 }
